@@ -50,7 +50,7 @@ def within_part(chart, arrow):
     """Whether tail and head of the arrow are in the same part."""
     check_arrow(chart, arrow)
     tail, head = chart.arrows[arrow]
-    return tail == head or come_to(chart, head)[tail]
+    return come_to(chart, head)[tail]
 
 
 def check_ring(chart, ring):
