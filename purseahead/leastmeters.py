@@ -45,8 +45,9 @@ def check_highs(chart, highs):
 
 def demands_above(chart, lot, lows):
     """The demands of the lot, each with its reason, and those of the lows."""
+    reasoned = list(lot_demands(chart, lot))
     lowest = [(place, None, low, ("low",)) for place, low in enumerate(lows)]
-    return [*list(lot_demands(chart, lot)), *lowest]
+    return [*reasoned, *lowest]
 
 
 def without_reasons(reasoned):
@@ -63,7 +64,8 @@ def least_of(chart, reasoned):
 
 def least_even(chart, lot):
     """The Even with the least leads that are even and covered for the lot, or a BadWalk."""
-    return least_of(chart, list(lot_demands(chart, lot)))
+    reasoned = list(lot_demands(chart, lot))
+    return least_of(chart, reasoned)
 
 
 def least_above(chart, lot, lows):

@@ -270,7 +270,7 @@ class JudgingLeast(unittest.TestCase):
 
     def test_reason(self):
         for wrong in ([0, 3, 2], None, 5, (), (0, 3), (0, 3, 2, 0), (False, 3, 2), (0, "3", 2), (0, None, 2),
-                      (0, 3, 6), (-6, 3, 2), (0, 3, -1), (1, 3, 2), (0, 4, 2), (0, 0, 2), (0, [3], 2)):
+                      (0, 3, 6), (-6, 3, 2), (-1, 3, 2), (0, 3, -1), (1, 3, 2), (0, 4, 2), (0, 0, 2), (0, [3], 2)):
             self.assertEqual(self.fault((1, 5, 3), wrong), "reason")
             self.assertEqual(self.fault((0, 0, 0), wrong), "reason")
 
