@@ -185,6 +185,8 @@ class Adding(Raises, unittest.TestCase):
         self.assertEqual((half + half).charges, (10 ** 12,))
         cost = Meter(Chart([1, 5 * 10 ** 8 + 1], [(0, 1)]), 10 ** 12, [10 ** 12])
         self.refuses(BadChart, {"what": "cost", "index": 1}, lambda: half + cost)
+        turned = Meter(Chart([1, 10 ** 9], [(0, 1), (1, 0)]), 10 ** 12, [10 ** 12] * 2)
+        self.unlike("arrows", half, turned)
         first = Meter(half.chart, 5 * 10 ** 11 + 1, [10 ** 12])
         self.refuses(BadMeter, {"what": "first", "index": 0}, lambda: half + first)
         charge = Meter(half.chart, 0, [5 * 10 ** 11 + 1])
