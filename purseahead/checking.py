@@ -1,5 +1,7 @@
 """Checks of plain values that the modules share."""
 
+from purseahead.errors import TooMany
+
 
 def is_whole(value):
     """Whether a value is a whole number; True and False are none."""
@@ -41,3 +43,9 @@ def first_misfit(value, count, least, most):
     if not is_row(value, count):
         return 0
     return first_outside(value, least, most)
+
+
+def check_many(count, most):
+    """Raise TooMany if a count is above the most."""
+    if count > most:
+        raise TooMany(count)

@@ -1,6 +1,7 @@
 """Rings that drift, levels within parts, and the search for first ways of least weight.
 
-A way is a row of arrows that follow one another; its weight is the sum of its arrows' weights.
+A way is a row of arrows that follow one another; its weight is the sum of its arrows' weights. No way goes
+along an arrow whose weight is None.
 """
 
 from purseahead.checking import is_whole_row
@@ -31,7 +32,7 @@ def one_further(chart, weights, row, lowest):
     """From the least weights of ways of one length, those of the ways with one arrow more in front."""
     longer = [None] * len(row)
     for arrow, (tail, head) in enumerate(chart.arrows):
-        if tail >= lowest and row[head] is not None:
+        if tail >= lowest and weights[arrow] is not None and row[head] is not None:
             weight = weights[arrow] + row[head]
             if longer[tail] is None or weight < longer[tail]:
                 longer[tail] = weight
@@ -54,7 +55,7 @@ def first_arrow(chart, weights, row, place, most):
     """The first arrow out of the place that some way of weight most or less goes on from, or None."""
     for arrow in chart.outs(place):
         rest = row[chart.arrows[arrow][1]]
-        if rest is not None and weights[arrow] + rest <= most:
+        if weights[arrow] is not None and rest is not None and weights[arrow] + rest <= most:
             return arrow
     return None
 

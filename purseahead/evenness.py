@@ -36,6 +36,23 @@ def check_lot(chart, lot):
     return tuple(lot)
 
 
+def behind_last(lot):
+    """The least number above all of the lot."""
+    if not lot:
+        return 0
+    return lot[-1] + 1
+
+
+def lots_by_number(count):
+    """All ascending tuples of numbers below count, by number of items, then ascending."""
+    lots = []
+    level = [()]
+    while level:
+        lots = [*lots, *level]
+        level = [(*lot, arrow) for lot in level for arrow in range(behind_last(lot), count)]
+    return lots
+
+
 def check_leads(chart, leads):
     """Return the leads as a tuple, or raise BadLeads."""
     wrong = first_misfit(leads, len(chart.costs), 0, MOST_LEAD)
