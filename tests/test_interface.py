@@ -4,11 +4,17 @@ import inspect
 import types
 import unittest
 
-from helping import example, example_meter
-from purseahead import charts, charttext, covering, demands, drifts, errors, evenness, leads, leastmeters, meters
-from purseahead import metertext, parts, runs
+from helping import example, example_meter, sample_works
+from purseahead import bounded, charts, charttext, covering, demands, drifts, errors, evenness, fewest, flatworks
+from purseahead import kindmeters, kinds, leads, leastmeters, meters, metertext, paces, parts, placelots, runs, stops
+from purseahead import weights, workleast, workmeters, workpaces, workruns, works
 from purseahead.charts import Chart
+from purseahead.kindmeters import KindMeter
+from purseahead.kinds import KindChart
 from purseahead.meters import Meter
+from purseahead.paces import Purse
+from purseahead.workmeters import WorkMeter
+from purseahead.works import Works
 
 FUNCTIONS = {
     charts: """check_place(chart, place) check_arrow(chart, arrow) scaled(chart, by) renamed(chart, moves)
@@ -32,6 +38,34 @@ FUNCTIONS = {
     leastmeters: """least_even(chart, lot) least_above(chart, lot, lows) reasons_fault(chart, lot, lows, even)
         chain_of(chart, even, place) leads_between(chart, lot, lows, highs)
         pinch_fault(chart, lot, lows, highs, pinch) meter_of(chart, leads) least_meter(chart, lot)""",
+    bounded: """bounded_meter(chart, lot) bounded_fault(chart, lot, meter) need_from(chart, lot, place)
+        all_needs(chart, lot) covering_meter(chart, lot)""",
+    fewest: """check_most(chart, most) find_claims(chart, *, most=None) claim_fault(chart, claim, *, most=None)
+        least_lots(chart, *, most=None) fewest(chart, *, most=None) needed_arrows(chart, *, most=None)""",
+    weights: """check_weights(chart, weights) cheapest(chart, weights, *, most=None)
+        share_out(chart, weights, *, most=None) trade_front(chart)""",
+    placelots: """check_places(chart, places) least_even_places(chart, places) place_walk_fault(chart, places, steps)
+        gathered_chart(chart) fewest_places(chart)""",
+    stops: """check_limit(limit) good_leads(meter) plain_stop(chart, run, limit) one_paced(meter, run, limit)
+        early_most(meter) lag_most(meter, most) find_further(meter, other) untested_most(meter)""",
+    paces: """check_gates(meter, gates) least_gates(meter) two_paced(meter, run, limit, *, gates=None)
+        tests_saved(meter, run, limit, *, gates=None) find_parting(meter, gates) slow_most(meter, gates, most)""",
+    works: """list_points(works) list_calls(works) list_called(works) list_marks(works) check_point(works, point)
+        find_call_ring(works)""",
+    workruns: """check_steps(works, steps) following_steps(works, steps) stand_after(works, steps)
+        visits_of(works, steps) used_by_steps(works, steps) all_work_runs(works, length)
+        count_work_runs(works, length) find_whole_run(works, procedure) find_run_to(works, point)""",
+    workmeters: """leads_of_steps(meter, steps) even_works(meter) is_metered_works(meter)
+        meter_from_leads(works, leads)""",
+    workpaces: """plain_steps_stop(works, steps, limit) least_work_gates(meter)
+        two_paced_works(meter, steps, limit, *, gates=None) find_work_parting(meter, gates)""",
+    workleast: """check_work_lot(works, lot) least_even_works(works, lot) work_walk_fault(works, lot, walk)
+        even_works_fault(works, lot, even) fewest_work_lot(works)""",
+    flatworks: """flatten_works(works) flat_run(works, steps) steps_of_run(works, run) flat_lot(works, lot)
+        flat_meter(meter) spread_works(works) spread_run(works, steps) spread_meter(meter) work_lows(meter)
+        work_highs(meter)""",
+    kinds: "check_prices(kindchart, prices) price_row(prices, row) used_by_kind(kindchart, run)",
+    kindmeters: "find_kind_short(kindmeter) even_rows(kindmeter)",
 }
 RESULTS = {
     drifts: "Drift(ring, by)",
@@ -39,14 +73,41 @@ RESULTS = {
     demands: "Least(numbers, reasons) DemandRing(indexes)",
     evenness: "Even(leads, reasons) BadWalk(steps)",
     leastmeters: "Between(least, greatest) Pinch(start, steps)",
+    bounded: "Bounded(meter, lows, reasons) Need(used, run) Endless(ring)",
+    fewest: "Claim(arrows, start, steps) Fewest(number, lot, floor)",
+    weights: "Cheapest(total, lot) Shares(shares, spent, total) Trade(number, greatest, lot)",
+    placelots: "Gathered(chart, entries) FewestPlaces(number, places)",
+    stops: """Stop(places, unused) Early(unused, run, limit) Lag(number, run, limit) Further(place, run, limit)
+        Stretch(number, run) Untested(ring)""",
+    paces: """Paced(places, unused, paces, purse_tests, slow_tests) Parting(place, run, limit)
+        SlowGo(number, run, limit)""",
+    workruns: "Standing(pending, point, returned)",
+    workmeters: "WorkLeads(leads) UnevenWorks(point, one, other)",
+    workpaces: "WorkParting(point, steps, limit)",
+    workleast: "EvenWorks(leads, chains) WorkWalk(steps) FewestWorks(number, lot)",
+    flatworks: "Flat(chart, spots, marks) Spread(chart, spots, copies, marks)",
+    kindmeters: "KindShort(kind, found) KindUneven(kind, found)",
 }
 METHODS = {
     Chart: """__init__(self, costs, arrows) outs(self, place) into(self, place) __len__(self) __iter__(self)
         __eq__(self, other)""",
     Meter: """__init__(self, chart, first, charges) charged(self, run) lead_ahead(self, run) lead_behind(self, run)
         with_first(self, first) with_charge(self, arrow, charge) __add__(self, other) __eq__(self, other)""",
+    Purse: "__init__(self, meter, limit, gates=None) take(self, arrow) fill(self, amount)",
+    Works: "__init__(self, charts, calls) __len__(self) __eq__(self, other)",
+    WorkMeter: """__init__(self, works, first, calls, arrows) charged(self, steps) lead_behind(self, steps)
+        __eq__(self, other)""",
+    KindChart: """__init__(self, rows, arrows) of_kind(self, kind) at_prices(self, prices) __len__(self)
+        __eq__(self, other)""",
+    KindMeter: """__init__(self, kindchart, first, charges) charged(self, run) lead_ahead(self, run)
+        lead_behind(self, run) of_kind(self, kind) at_prices(self, prices) __eq__(self, other)""",
 }
-GENERATORS = (runs.all_runs, parts.rings_of, leads.leads_along, evenness.lot_demands)
+PROPERTIES = ((Chart, "ends"), (Meter, "charged_arrows"), (Purse, "unused_now"), (WorkMeter, "charged_marks"),
+              (KindMeter, "charged_arrows"))
+GENERATORS = (runs.all_runs, parts.rings_of, leads.leads_along, evenness.lot_demands, fewest.least_lots,
+              workruns.all_work_runs)
+HOMES = {Chart: charts, Meter: meters, Purse: paces, Works: works, WorkMeter: workmeters, KindChart: kinds,
+         KindMeter: kindmeters}
 
 
 def listed(text):
@@ -59,7 +120,8 @@ def listed(text):
 
 
 def parameters(work):
-    return list(inspect.signature(work).parameters)
+    """The parameters as a listing writes them, the bare star among them."""
+    return str(inspect.signature(work)).strip("()").split(", ")
 
 
 def results():
@@ -89,11 +151,17 @@ class Interface(unittest.TestCase):
             for name, arguments in listed(text):
                 self.assertIsInstance(vars(made)[name], types.FunctionType)
                 self.assertEqual(parameters(vars(made)[name]), arguments, name)
-        self.assertIsInstance(vars(Chart)["ends"], property)
-        self.assertIsInstance(vars(Meter)["charged_arrows"], property)
+        for made, name in PROPERTIES:
+            self.assertIsInstance(vars(made)[name], property)
         self.assertIsInstance(vars(Meter)["plain"], staticmethod)
         self.assertEqual(parameters(Meter.plain), ["chart"])
-        self.assertEqual((Chart.__module__, Meter.__module__), ("purseahead.charts", "purseahead.meters"))
+        for made, home in HOMES.items():
+            self.assertEqual(made.__module__, home.__name__)
+
+    def test_attributes_of_a_purse(self):
+        purse = Purse(example_meter(), 9)
+        for name in ("pace", "places", "place", "purse_tests", "slow_tests"):
+            self.assertIn(name, vars(purse))
 
     def test_generators(self):
         for work in GENERATORS:
@@ -130,7 +198,9 @@ class Equality(unittest.TestCase):
 
     def test_other_classes(self):
         made = [each(*[(at,) for at in range(len(arguments))]) for _, each, arguments in results()]
-        things = [*made, example(), example_meter()]
+        things = [*made, example(), example_meter(), sample_works(), kinds.KindChart([[2]], []),
+                  workmeters.WorkMeter(sample_works(), 0, [(0, 0), (0, 0, 0)], [(0,), (0, 0)]),
+                  kindmeters.KindMeter(kinds.KindChart([[2]], []), [2], [])]
         for one in range(len(things)):
             for two in range(len(things)):
                 self.assertIs(things[one] == things[two], one == two)
@@ -146,11 +216,24 @@ class Unchanged(unittest.TestCase):
         chart, meter = example(), example_meter()
         for module, text in FUNCTIONS.items():
             for name, arguments in listed(text):
-                if arguments in (["chart"], ["meter"]):
-                    found = vars(module)[name](chart if arguments == ["chart"] else meter)
-                    if inspect.isgenerator(found):
-                        list(found)
+                if arguments in (["chart"], ["meter"]) and module is not flatworks:
+                    if name not in ("even_works", "is_metered_works", "least_work_gates"):
+                        self.use(vars(module)[name], chart if arguments == ["chart"] else meter)
         self.assertEqual((chart, meter), (example(), example_meter()))
+
+    def use(self, work, thing):
+        found = work(thing)
+        if inspect.isgenerator(found):
+            list(found)
+
+    def test_works(self):
+        given, meter = sample_works(), workmeters.WorkMeter(sample_works(), 2, [(9, 0), (0, 0, 0)], [(0,), (0, 3)])
+        for module in (works, workmeters, workpaces, workleast, flatworks):
+            for name, arguments in listed(FUNCTIONS[module]):
+                if arguments in (["works"], ["meter"]):
+                    self.use(vars(module)[name], given if arguments == ["works"] else meter)
+        told = workmeters.WorkMeter(sample_works(), 2, [(9, 0), (0, 0, 0)], [(0,), (0, 3)])
+        self.assertEqual((given, meter), (sample_works(), told))
 
     def test_lists(self):
         chart, meter = example(), example_meter()
@@ -163,7 +246,14 @@ class Unchanged(unittest.TestCase):
                  (evenness.walk_places, [chart, 2, [(2, "back")]]), (evenness.walk_sum, [chart, [(2, "back")]]),
                  (leastmeters.meter_of, [chart, [6, 4, 4, 4]]), (leastmeters.least_meter, [chart, [1, 3]]),
                  (charts.renamed, [chart, [0, 2, 1, 3]]), (demands.least_numbers, [1, [[0, None, 3]]]),
-                 (demands.greatest_numbers, [1, [[0, None, 3]], [5]])]
+                 (demands.greatest_numbers, [1, [[0, None, 3]], [5]]), (bounded.bounded_meter, [chart, [1, 3]]),
+                 (bounded.bounded_fault, [chart, [1, 3], meter]), (bounded.need_from, [chart, [1, 3], 0]),
+                 (bounded.all_needs, [chart, [1, 3]]), (bounded.covering_meter, [chart, [1, 3]]),
+                 (weights.cheapest, [chart, [1, 2, 3, 4, 5]]), (weights.share_out, [chart, [1, 2, 3, 4, 5]]),
+                 (placelots.least_even_places, [chart, [0, 2]]), (placelots.place_walk_fault, [chart, [0], [(0, "back")]]),
+                 (stops.plain_stop, [chart, [0, 1], 9]), (stops.one_paced, [meter, [0, 1], 9]),
+                 (paces.check_gates, [meter, [6, 3, 4, 1]]), (paces.two_paced, [meter, [0, 1], 9]),
+                 (paces.find_parting, [meter, [6, 3, 4, 1]]), (paces.slow_most, [meter, [6, 3, 4, 1], 9])]
         for work, arguments in calls:
             before = repr([each for each in arguments if isinstance(each, list)])
             work(*arguments)
