@@ -3,7 +3,7 @@
 from purseahead.charts import is_place
 from purseahead.checking import check_many, is_whole, is_whole_tuple
 from purseahead.errors import BadMost, TooTight
-from purseahead.evenness import BadWalk, are_steps, lots_by_number, step_ends, walk_places, walk_sum
+from purseahead.evenness import BadWalk, lots_by_number, step_ends, walk_places, walk_sum
 from purseahead.leastmeters import chain_of, least_even
 
 MOST_ARROWS = 10
@@ -102,7 +102,8 @@ def back_arrows(steps):
 def is_too_heavy(chart, claim, places, most):
     """Whether the claim's walk through these places is heavy or tall."""
     total = walk_sum(chart, claim.steps)
-    if claim.steps and places[-1] == claim.start and total > 0:
+    # A walk without steps has the sum 0.
+    if places[-1] == claim.start and total > 0:
         return True
     return most is not None and chart.costs[claim.start] + total > most
 
@@ -110,7 +111,7 @@ def is_too_heavy(chart, claim, places, most):
 def claim_fault(chart, claim, *, most=None):
     """None, or the first of "steps", "arrows", "light" that is wrong with a Claim."""
     check_case(chart, most)
-    if not is_place(chart, claim.start) or not isinstance(claim.steps, tuple) or not are_steps(chart, claim.steps):
+    if not is_place(chart, claim.start) or not isinstance(claim.steps, tuple):
         return "steps"
     places = walk_places(chart, claim.start, claim.steps)
     if places is None:

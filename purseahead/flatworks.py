@@ -125,7 +125,8 @@ def copied_link(works, called, copy, mark):
     start, end = link_of(works, mark)
     if kind == "call":
         return ((copy, start), (called[(copy, item)], end))
-    if kind == "arrow" and start[1] is None:
+    if start[1] is None:
+        # Only an arrow leads on from a return place: from that of the copy that its tail calls.
         tail = works.charts[number].arrows[item][0]
         return ((called[(copy, tail)], start), (copy, end))
     return ((copy, start), (copy, end))

@@ -1,6 +1,6 @@
 """Runs of works: well-nested rows of steps, how many there are, and the first ones to points and ends.
 
-Each step goes along one mark's link, but the arrow behind a return, whose mark tells the call point itself.
+Each step goes along the link of one mark.
 """
 
 from purseahead.checking import is_row, is_sequence, is_whole, is_within
@@ -149,8 +149,8 @@ def whole_count(works, wholes, stand, length):
     called = called_by(works, point)
     if called is None or returned:
         heads = heads_of(works, point)
-        if length == 0 or not heads:
-            return int(length == 0 and not heads)
+        if length == 0:
+            return int(not heads)
         return sum([wholes[(head, False)][length - 1] for head in heads])
     whole = wholes[((called, 0), False)]
     return sum([whole[many] * wholes[(point, True)][length - 2 - many] for many in range(length - 1)])
@@ -181,42 +181,25 @@ def count_work_runs(works, length):
     return count_tables(works, length)[0][((0, 0), False)][length]
 
 
-def last_above(counts):
-    """The last index of a number above 0, or None."""
-    found = [index for index, many in enumerate(counts) if many > 0]
-    if not found:
-        return None
-    return found[-1]
+def longest_stays(works, length):
+    """For each stand the greatest length, up to this one, of a row without a return out of its procedure."""
+    stays, _ = count_tables(works, length)
+    return {stand: len([many for many in counts if many > 0]) - 1 for stand, counts in stays.items()}
 
 
-def lasts_of(table):
-    return {stand: last_above(counts) for stand, counts in table.items()}
-
-
-def can_go_on(stays, wholes, pending, stand, left):
-    """Whether a run with these pending calls goes on for that many steps.
-
-    stays and wholes hold for each stand the greatest length, up to this many steps or more, of a row as
-    stay_count and whole_count tell.
-    """
-    for call in reversed((None, *pending)):
-        if stays[stand] >= left:
-            return True
-        if wholes[stand] is None or call is None:
-            return False
-        left = left - wholes[stand] - 1
-        stand = (call, True)
-    return False
+def can_go_on(longest, pending, stand, left):
+    """Whether a run with these pending calls goes on for that many steps, no more than longest was made for."""
+    # A longest row that cannot go on is at an end of its procedure, so that a return follows.
+    behind = [1 + longest[(call, True)] for call in pending]
+    return longest[stand] + sum(behind) >= left
 
 
 def all_work_runs(works, length):
     """Yield the runs of exactly that many steps, ascending."""
     check_length(length, MOST_LISTED)
-    stay_counts, whole_counts = count_tables(works, length)
-    stays = lasts_of(stay_counts)
-    wholes = lasts_of(whole_counts)
+    longest = longest_stays(works, length)
     waiting = []
-    if can_go_on(stays, wholes, (), ((0, 0), False), length):
+    if can_go_on(longest, (), ((0, 0), False), length):
         waiting.append(((), (0, 0), False, ()))
     while waiting:
         pending, point, returned, steps = waiting.pop()
@@ -227,7 +210,7 @@ def all_work_runs(works, length):
         for mark in reversed(next_marks(works, point, returned, len(pending) > 0)):
             calls, further, back = stand_behind(works, pending, point, mark)
             # A start that no run of this length goes on from would cost time for nothing.
-            if can_go_on(stays, wholes, calls, (further, back), left):
+            if can_go_on(longest, calls, (further, back), left):
                 waiting.append((calls, further, back, (*steps, step_of(mark))))
 
 

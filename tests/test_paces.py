@@ -109,6 +109,9 @@ class Gates(Raises, unittest.TestCase):
             self.refuses(NotMetered, {"what": "even"}, Purse, uneven(), wrong, ())
         for wrong in WRONG_SPANS:
             self.refuses(BadMost, {"most": wrong}, slow_most, example_meter(), None, wrong)
+        self.refuses(NotMetered, {"what": "even"}, least_gates, uneven())
+        self.refuses(NotMetered, {"what": "covered"}, least_gates, uncovered())
+        self.refuses(NotMetered, {"what": "even"}, least_gates, example_meter(0, (0, 9, 0, 0, 0)))
 
 
 class TwoPaced(unittest.TestCase):
@@ -283,7 +286,7 @@ class SlowMost(unittest.TestCase):
 
     def test_all_runs(self):
         for source, meter in zip(sources(16), some_metered(16, **SMALL)):
-            runs = runs_up_to(meter.chart, 6)
+            runs = runs_up_to(meter.chart, 5)
             for gates in some_gates(source, meter):
                 fitting = good_leads(meter) if gates is None else gates
                 best = 0

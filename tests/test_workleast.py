@@ -324,6 +324,16 @@ class JudgingLeads(unittest.TestCase):
                       ((0, 0), ((LOT[1], "forward"), (LOT[1], "back"))), ((1, 0), ((LOT[1], "forward"),))):
             self.assertEqual(self.fault(chains=((wrong, self.right.chains[0][1]), self.right.chains[1])), "chain")
 
+    def test_chain_of_another_point(self):
+        # Costs and sums would fit, but not the point, or not the start.
+        works = Works([Chart([0, 0, 0], [(0, 1), (1, 2)])], [(None,) * 3])
+        first, second = (("arrow", 0, 0), "forward"), (("arrow", 0, 1), "forward")
+        for chain, told in ((((0, 2), ()), None), (((0, 1), (second,)), None), (((0, 0), (first, second)), None),
+                            (((0, 1), ()), "chain"), (((0, 0), ()), "chain"), (((0, 0), (first,)), "chain"),
+                            (((0, 0), (second,)), "chain"), (((0, 2), (first, second)), "chain")):
+            even = EvenWorks(((0, 0, 0),), ((((0, 0), ()), ((0, 1), ()), chain),))
+            self.assertEqual(even_works_fault(works, (), even), told)
+
     def test_chain_from_a_return_place(self):
         # The lead behind the only end is 0, which is the cost of the return place.
         works = Works([line(2), Chart([2], [])], [(1, None), (None,)])
@@ -332,6 +342,9 @@ class JudgingLeads(unittest.TestCase):
         self.assertEqual(found.leads, ((3, 1), (2,)))
         chains = ((found.chains[0][0], found.chains[0][1]), (((1, None), ((("end", 1, 0), "back"),)),))
         self.assertEqual(even_works_fault(works, lot, EvenWorks(found.leads, chains)), None)
+        for start in ((True, None), (0, None), (1, 0), (1, False), (1, 1), (2, None), None, 1):
+            wrong = (chains[0], ((start, ((("end", 1, 0), "back"),)),))
+            self.assertEqual(even_works_fault(works, lot, EvenWorks(found.leads, wrong)), "chain")
         chains = (chains[0], (((1, None), ()),))
         self.assertEqual(even_works_fault(works, lot, EvenWorks(found.leads, chains)), "chain")
 

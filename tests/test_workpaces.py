@@ -275,6 +275,30 @@ class Partings(unittest.TestCase):
         self.assertEqual(least_work_gates(meter), ((3, 3, 1, 9, 2), (3,)))
         for gates in (((3, 2, 1, 9, 2), (3,)), ((3, 3, 0, 9, 2), (3,)), ((0, 0, 0, 0, 0), (0,))):
             self.check(meter, gates, find_work_parting(meter, gates))
+        # The same if there are steps within the callee.
+        works = Works([works.charts[0], Chart([1, 0, 0], [(0, 1), (1, 2)])], [works.calls[0], (None,) * 3])
+        meter = WorkMeter(works, 3, [(0,) * 5, (0,) * 3], [(0, 0, 0, 7), (0, 0)])
+        self.assertEqual(least_work_gates(meter), ((3, 3, 1, 9, 2), (3, 2, 2)))
+        for gates in (((3, 2, 1, 9, 2), (3, 2, 2)), ((3, 3, 0, 9, 2), (3, 2, 2)), ((3, 3, 1, 9, 2), (3, 1, 2))):
+            self.check(meter, gates, find_work_parting(meter, gates))
+
+    def test_charges_within_the_callee(self):
+        # The call is free, but the arrow or the call within the callee is not: nothing behind it is needed.
+        one = Works([Chart([0, 8], [(0, 1)]), Chart([1, 0], [(0, 1)])], [(1, None), (None, None)])
+        meter = WorkMeter(one, 11, [(0, 0), (0, 0)], [(0,), (5,)])
+        self.assertEqual(least_work_gates(meter), ((1, 8), (1, 8)))
+        two = Works([Chart([0, 8], [(0, 1)]), Chart([1, 0], [(0, 1)]), Chart([0], [])], [(1, None), (2, None), (None,)])
+        meter = WorkMeter(two, 11, [(0, 0), (5, 0), (0,)], [(0,), (0,), ()])
+        self.assertEqual(least_work_gates(meter), ((1, 8), (1, 8), (8,)))
+        free = WorkMeter(two, 11, [(0, 0), (0, 0), (0,)], [(0,), (0,), ()])
+        self.assertEqual(least_work_gates(free), ((9, 8), (9, 8), (8,)))
+        # Arrow 0 of the callee charges, arrow 0 of the caller does not, and the other way about.
+        back = Works([Chart([0, 8, 1], [(0, 1), (1, 2)]), Chart([1, 0, 0], [(0, 1), (1, 2)])],
+                     [(1, None, None), (None, None, None)])
+        meter = WorkMeter(back, 20, [(0, 0, 0), (0, 0, 0)], [(0, 3), (0, 2)])
+        self.assertEqual(least_work_gates(meter), ((1, 8, 1), (1, 0, 8)))
+        meter = WorkMeter(back, 20, [(0, 0, 0), (0, 0, 0)], [(0, 0), (0, 0)])
+        self.assertEqual(least_work_gates(meter), ((10, 9, 1), (10, 9, 9)))
 
     def test_all_runs(self):
         wrong = 0

@@ -7,8 +7,8 @@ from helping import NO_NUMBERS, NO_SEQUENCES, Raises, Trail, calling_ring, deep_
 from helping import sample_works, some_works, trail_along, trails, trails_up_to
 from purseahead.charts import Chart
 from purseahead.errors import BadLength, BadPoint, BadProcedure, BadSteps
-from purseahead.workruns import Standing, all_work_runs, check_steps, count_work_runs, find_run_to, find_whole_run
-from purseahead.workruns import following_steps, stand_after, used_by_steps, visits_of
+from purseahead.workruns import Standing, all_work_runs, can_go_on, check_steps, count_work_runs, find_run_to
+from purseahead.workruns import find_whole_run, following_steps, longest_stays, stand_after, used_by_steps, visits_of
 from purseahead.works import Works, list_points
 
 WHOLE = (("call",), ("arrow", 1), ("return",), ("arrow", 0))
@@ -122,6 +122,18 @@ class AllRuns(Raises, unittest.TestCase):
                 self.assertEqual(list(all_work_runs(works, length)), told)
                 self.assertEqual(told, sorted(told))
                 self.assertEqual(count_work_runs(works, length), len(told))
+
+    def test_no_start_is_gone_on_with_for_nothing(self):
+        for works in some_works(30, most_places=4, most_arrows=5):
+            ways = trails_up_to(works, 7)
+            longest = longest_stays(works, 7)
+            goes_on = {}
+            for trail in reversed(ways):
+                left = max([1 + goes_on[further.steps] for further in trail.goings() if further.steps in goes_on], default=0)
+                goes_on[trail.steps] = left
+                for many in range(8 - len(trail.steps)):
+                    found = can_go_on(longest, trail.pending, (trail.point, trail.returned), many)
+                    self.assertEqual(found, many <= left)
 
     def test_longer(self):
         for works in (sample_works(), around(), deep_works()):
