@@ -4,6 +4,7 @@ import random
 
 from purseahead.charts import Chart
 from purseahead.errors import BadWorks
+from purseahead.kinds import KindChart
 from purseahead.leastmeters import least_meter
 from purseahead.meters import Meter
 from purseahead.workleast import EvenWorks, least_even_works
@@ -19,6 +20,12 @@ WRONG_LIMITS = (-1, 10 ** 15 + 1, *NO_NUMBERS)
 WRONG_SPANS = (0, -1, 65, *NO_NUMBERS)
 # For the chart of the examples, each with the index that is told.
 BAD_RUNS = [(0, wrong) for wrong in NO_SEQUENCES] + [(0, (1,)), (1, [0, 0]), (0, (True,)), (2, (0, 1, 9)), (0, (0,) * 401)]
+# Place lots that are none of any chart of three places or more; each with the index that is told.
+BAD_PLACE_LOTS = [(0, wrong) for wrong in NO_SEQUENCES] + [(0, (-1,)), (0, (16,)), (1, [0, True]), (1, (1, 1)),
+                                                           (2, (0, 2, 1)), (0, ("0",)), (1, (0, None, None))]
+# Lots that are none of any chart of three arrows or more; each with the index that is told.
+BAD_LOTS = [(0, wrong) for wrong in NO_SEQUENCES] + [(0, (-1,)), (0, (99,)), (1, [0, True]), (1, (1, 1)), (2, (0, 2, 1)),
+                                                     (0, ("0",)), (1, (0, None, None)), (1, (1, 0, 99))]
 SMALL = {"most_places": 3, "most_arrows": 4, "most_cost": 3}
 
 
@@ -112,6 +119,21 @@ def rising_metered(source, **sizes):
     """An even and covered meter whose first charge is more than it needs."""
     meter = least_metered(source, **sizes)
     return meter.with_first(meter.first + source.randint(0, 3))
+
+
+def moved_pair(source, most_charge=6, **sizes):
+    """Two meters of one chart with drops: the second one has leads that are less by some number at each place."""
+    while True:
+        meter = random_meter(source, most_charge, **sizes)
+        drops = [source.choice((0, 0, 1, 2, 3, -1, -2, -3)) for _ in meter.chart.costs]
+        charges = [charge - drops[head] + drops[tail] for charge, (tail, head) in zip(meter.charges, meter.chart.arrows)]
+        if min([meter.first - drops[0], *charges]) >= 0:
+            return meter, Meter(meter.chart, meter.first - drops[0], charges), tuple(drops)
+
+
+def some_pairs(count, **sizes):
+    """Couples of meters of one chart with their drops."""
+    return [moved_pair(source, **{"most_places": 5, "most_arrows": 6, **sizes}) for source in sources(count)]
 
 
 def some_metered(count, **sizes):
@@ -220,6 +242,25 @@ def all_lots(chart):
     for arrow in range(len(chart.arrows)):
         lots = lots + [lot + (arrow,) for lot in lots]
     return sorted(lots)
+
+
+KIND_ROWS = ((1, 0), (0, 2), (0, 0))
+KIND_ARROWS = ((0, 1), (1, 2), (0, 2))
+
+
+def sample_kinds():
+    """The kind chart of the document's example in part 7."""
+    return KindChart(KIND_ROWS, KIND_ARROWS)
+
+
+def ring_kinds():
+    """The example chart with two kinds, the second one the number of visits."""
+    return KindChart([(cost, 1) for cost in example().costs], example().arrows)
+
+
+def random_kinds(source, kinds, most_number=3, **sizes):
+    chart = random_chart(source, **sizes)
+    return KindChart([[source.randint(0, most_number) for _ in range(kinds)] for _ in chart.costs], chart.arrows)
 
 
 def sample_works():

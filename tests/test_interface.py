@@ -5,12 +5,14 @@ import types
 import unittest
 
 from helping import example, example_meter, sample_works
-from purseahead import bounded, charts, charttext, covering, demands, drifts, errors, evenness, fewest, flatworks
-from purseahead import kindmeters, kinds, leads, leastmeters, meters, metertext, paces, parts, placelots, runs, stops
-from purseahead import weights, workleast, workmeters, workpaces, workruns, works
+from purseahead import bounded, charts, charttext, comparing, copying, covering, demands, drifts, errors, evenness
+from purseahead import fewest, flatworks, kindmeters, kinds, lanes, leads, leastmeters, meters, metertext, moving, paces
+from purseahead import parts, placelots, pricelimits, pricing, runs, stops, weaves, weights, workleast, workmeters
+from purseahead import workpaces, workruns, works
 from purseahead.charts import Chart
 from purseahead.kindmeters import KindMeter
 from purseahead.kinds import KindChart
+from purseahead.lanes import Lanes
 from purseahead.meters import Meter
 from purseahead.paces import Purse
 from purseahead.workmeters import WorkMeter
@@ -66,6 +68,17 @@ FUNCTIONS = {
         work_highs(meter)""",
     kinds: "check_prices(kindchart, prices) price_row(prices, row) used_by_kind(kindchart, run)",
     kindmeters: "find_kind_short(kindmeter) even_rows(kindmeter)",
+    pricing: """least_even_kinds(kindchart, lot) kind_meter(kindchart, rows) even_at(kindchart, lot, prices)
+        apart_prices(kindchart, lot)""",
+    pricelimits: """price_limits(kindchart, lot) limit_fault(kindchart, lot, limit) ratio_span(kindchart, lot)
+        fewest_kinds(kindchart)""",
+    moving: """moved(meter, places, by) find_drops(meter, other) find_moves(meter, other)
+        find_single_moves(meter, other)""",
+    comparing: "lower_of(meter, other) upper_of(meter, other) find_sooner(meter, other)",
+    copying: """copied(chart, place, lot) lead_run(copy, run) lead_back(copy, run) lifted_lot(copy, lot)
+        lifted_meter(copy, meter) best_copy(chart, lot)""",
+    weaves: """weave_run(meters, limit, deeds) check_lane_runs(meters, runs) all_weaves(meters, runs)
+        count_weaves(meters, runs)""",
 }
 RESULTS = {
     drifts: "Drift(ring, by)",
@@ -87,6 +100,12 @@ RESULTS = {
     workleast: "EvenWorks(leads, chains) WorkWalk(steps) FewestWorks(number, lot)",
     flatworks: "Flat(chart, spots, marks) Spread(chart, spots, copies, marks)",
     kindmeters: "KindShort(kind, found) KindUneven(kind, found)",
+    pricing: "EvenKinds(rows) KindWalk(kind, steps)",
+    pricelimits: "Limit(row, steps) Span(low, high) FewestKinds(number, lot)",
+    moving: "Apart(place, one, other) Stuck(ring)",
+    comparing: "Sooner(run, limit)",
+    copying: "Copy(source, chart, place, origins) BestCopy(place, arrows, greatest)",
+    weaves: "Woven(done, refused, purse, used)",
 }
 METHODS = {
     Chart: """__init__(self, costs, arrows) outs(self, place) into(self, place) __len__(self) __iter__(self)
@@ -101,13 +120,14 @@ METHODS = {
         __eq__(self, other)""",
     KindMeter: """__init__(self, kindchart, first, charges) charged(self, run) lead_ahead(self, run)
         lead_behind(self, run) of_kind(self, kind) at_prices(self, prices) __eq__(self, other)""",
+    Lanes: "__init__(self, meters, limit) begin(self, lane) take(self, lane, arrow) fork(self, lane) close(self, lane)",
 }
 PROPERTIES = ((Chart, "ends"), (Meter, "charged_arrows"), (Purse, "unused_now"), (WorkMeter, "charged_marks"),
-              (KindMeter, "charged_arrows"))
+              (KindMeter, "charged_arrows"), (Lanes, "held_now"))
 GENERATORS = (runs.all_runs, parts.rings_of, leads.leads_along, evenness.lot_demands, fewest.least_lots,
-              workruns.all_work_runs)
+              workruns.all_work_runs, weaves.all_weaves)
 HOMES = {Chart: charts, Meter: meters, Purse: paces, Works: works, WorkMeter: workmeters, KindChart: kinds,
-         KindMeter: kindmeters}
+         KindMeter: kindmeters, Lanes: lanes}
 
 
 def listed(text):
@@ -162,6 +182,10 @@ class Interface(unittest.TestCase):
         purse = Purse(example_meter(), 9)
         for name in ("pace", "places", "place", "purse_tests", "slow_tests"):
             self.assertIn(name, vars(purse))
+
+    def test_attributes_of_lanes(self):
+        for name in ("meters", "limit", "purse", "used", "unused", "stands", "places"):
+            self.assertIn(name, vars(Lanes([example_meter()], 9)))
 
     def test_generators(self):
         for work in GENERATORS:

@@ -3,8 +3,8 @@
 import unittest
 from itertools import product
 
-from helping import BAD_RUNS, NO_NUMBERS, NO_SEQUENCES, Raises, example, is_deep_tuple, plain_runs, random_chart
-from helping import sources
+from helping import BAD_RUNS, KIND_ARROWS, NO_NUMBERS, NO_SEQUENCES, Raises, is_deep_tuple, plain_runs, random_kinds
+from helping import ring_kinds, sample_kinds, sources
 from purseahead.charts import Chart
 from purseahead.covering import Short, Uneven, even_leads, find_short, is_covered
 from purseahead.drifts import Drift
@@ -13,14 +13,9 @@ from purseahead.kindmeters import KindMeter, KindShort, KindUneven, even_rows, f
 from purseahead.kinds import KindChart, price_row
 from purseahead.meters import Meter
 
-ROWS = ((1, 0), (0, 2), (0, 0))
-ARROWS = ((0, 1), (1, 2), (0, 2))
+ARROWS = KIND_ARROWS
 CHARGES = ((0, 0), (0, 2), (0, 0))
 MOST = 10 ** 8
-
-
-def sample_kinds():
-    return KindChart(ROWS, ARROWS)
 
 
 def sample_meter(first=(1, 2), charges=CHARGES):
@@ -28,14 +23,8 @@ def sample_meter(first=(1, 2), charges=CHARGES):
     return KindMeter(sample_kinds(), first, charges)
 
 
-def ring_kinds():
-    """The example chart with two kinds, the second one the number of visits."""
-    return KindChart([(cost, 1) for cost in example().costs], example().arrows)
-
-
 def any_meter(source, kinds, most=3):
-    chart = random_chart(source, most_places=3, most_arrows=4)
-    chart = KindChart([[source.randint(0, 2) for _ in range(kinds)] for _ in chart.costs], chart.arrows)
+    chart = random_kinds(source, kinds, 2, most_places=3, most_arrows=4)
     row = lambda: [source.randint(0, most) for _ in range(kinds)]
     return KindMeter(chart, row(), [row() for _ in chart.arrows])
 
@@ -43,8 +32,7 @@ def any_meter(source, kinds, most=3):
 def even_meter(source, kinds):
     """A meter that follows rows of leads, covered or not."""
     while True:
-        chart = random_chart(source, most_places=3, most_arrows=4)
-        chart = KindChart([[source.randint(0, 2) for _ in range(kinds)] for _ in chart.costs], chart.arrows)
+        chart = random_kinds(source, kinds, 2, most_places=3, most_arrows=4)
         leads = [[source.randint(0, 4) for _ in range(kinds)] for _ in chart.rows]
         charges = [[leads[head][kind] - leads[tail][kind] + chart.rows[tail][kind] for kind in range(kinds)]
                    for tail, head in chart.arrows]

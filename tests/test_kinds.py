@@ -3,25 +3,14 @@
 import unittest
 from itertools import product
 
-from helping import BAD_RUNS, NO_NUMBERS, NO_SEQUENCES, Raises, example, is_deep_tuple, plain_runs, random_chart
-from helping import sources, visits
+from helping import BAD_RUNS, KIND_ARROWS, KIND_ROWS, NO_NUMBERS, NO_SEQUENCES, Raises, example, is_deep_tuple
+from helping import plain_runs, random_kinds, sample_kinds, sources, visits
 from purseahead.charts import Chart
 from purseahead.errors import BadChart, BadKinds, BadPrices, BadRun, NoKind
 from purseahead.kinds import KindChart, check_prices, price_row, used_by_kind
 from purseahead.runs import used_by
 
-ROWS = ((1, 0), (0, 2), (0, 0))
-ARROWS = ((0, 1), (1, 2), (0, 2))
-
-
-def sample_kinds():
-    """The kind chart of the document's example in part 7."""
-    return KindChart(ROWS, ARROWS)
-
-
-def random_kinds(source, kinds, **sizes):
-    chart = random_chart(source, **sizes)
-    return KindChart([[source.randint(0, 3) for _ in range(kinds)] for _ in chart.costs], chart.arrows)
+ROWS, ARROWS = KIND_ROWS, KIND_ARROWS
 
 
 class Building(Raises, unittest.TestCase):

@@ -26,6 +26,8 @@ BARRED_WORDS = {
 BARRED_ATTRIBUTES = {
     "items", "keys", "values", "pop", "update", "append", "clear", "extend", "insert", "remove", "reverse",
     "setdefault", "sort", "args", "encode", "decode", "hex", "fromhex", "format", "format_map", "mro"}
+# What may come from the library; each is only called, by its bare name and with arguments by position.
+LIBRARY = {"math": {"gcd", "comb"}}
 # Narrower than the rules ask for: what the package does without is not weighed case by case here.
 ALLOWED_NODES = (
     ast.Module, ast.Expr, ast.ImportFrom, ast.alias, ast.FunctionDef, ast.ClassDef, ast.arguments, ast.arg,
@@ -35,7 +37,7 @@ ALLOWED_NODES = (
     ast.Lambda, ast.Yield, ast.YieldFrom, ast.JoinedStr, ast.FormattedValue,
     ast.BoolOp, ast.And, ast.Or, ast.UnaryOp, ast.Not, ast.USub, ast.BinOp, ast.Add, ast.Sub, ast.Mult,
     ast.FloorDiv, ast.Mod, ast.Pow, ast.Compare, ast.Eq, ast.NotEq, ast.Lt, ast.LtE, ast.Gt, ast.GtE, ast.Is,
-    ast.IsNot, ast.In, ast.NotIn)
+    ast.IsNot, ast.In, ast.NotIn, ast.Try, ast.ExceptHandler)
 AT_ONCE = {"list", "tuple", "sorted", "enumerate", "zip", "dict"}
 
 
@@ -175,11 +177,29 @@ def name_faults(tree):
     return faults
 
 
+def library_names(tree):
+    return {alias.name for node in tree.body if isinstance(node, ast.ImportFrom) and node.module in LIBRARY
+            for alias in node.names if alias.name in LIBRARY[node.module]}
+
+
+def library_faults(tree):
+    """Faults of names of the library: each stands only in calls, and those without keywords."""
+    names = library_names(tree)
+    called = [node for node in ast.walk(tree) if isinstance(node, ast.Call) and isinstance(node.func, ast.Name)
+              and node.func.id in names]
+    faults = ["library with a keyword " + node.func.id for node in called if node.keywords]
+    heads = [node.func for node in called]
+    return faults + ["library not called " + node.id for node in ast.walk(tree) if isinstance(node, ast.Name)
+                     and node.id in names and node not in heads]
+
+
 def import_faults(tree):
-    faults = []
+    faults = library_faults(tree)
     used = {node.id for node in ast.walk(tree) if isinstance(node, ast.Name)}
     for node in tree.body:
         if isinstance(node, ast.ImportFrom):
+            if node.module in LIBRARY and {alias.name for alias in node.names} <= LIBRARY[node.module]:
+                continue
             if node.level or not node.module.startswith("purseahead."):
                 faults.append("import from outside " + str(node.module))
             if any(alias.asname or alias.name == "*" for alias in node.names):
@@ -223,6 +243,18 @@ def raise_faults(node):
     return ["raise"]
 
 
+def try_faults(node):
+    """Faults of a try statement: it catches own errors by name, once each, and nothing else."""
+    faults = ["finally"] if node.finalbody else []
+    for handler in node.handlers:
+        kinds = handler.type.elts if isinstance(handler.type, ast.Tuple) else [handler.type]
+        if handler.name or not all(isinstance(kind, ast.Name) and kind.id not in dir(builtins) for kind in kinds):
+            faults.append("except")
+    if any(isinstance(inner, (ast.Yield, ast.YieldFrom)) for inner in ast.walk(node)):
+        faults.append("yield under a try")
+    return faults
+
+
 def definition_faults(node):
     faults = []
     for decorator in node.decorator_list:
@@ -247,6 +279,8 @@ def statement_faults(tree):
             faults.extend(compare_faults(node))
         if isinstance(node, ast.Call):
             faults.extend(call_faults(node))
+        if isinstance(node, ast.Try):
+            faults.extend(try_faults(node))
         if isinstance(node, ast.Raise):
             faults.extend(raise_faults(node))
         if isinstance(node, (ast.FunctionDef, ast.ClassDef)):
@@ -314,13 +348,14 @@ class PackageForm(unittest.TestCase):
         defined = {name[:-3]: defined_names(tree) for name, tree in self.trees.items()}
         for name, tree in self.trees.items():
             for node in tree.body:
-                if isinstance(node, ast.ImportFrom):
+                if isinstance(node, ast.ImportFrom) and node.module not in LIBRARY:
                     for alias in node.names:
                         with self.subTest(file=name, name=alias.name):
                             self.assertIn(alias.name, defined[node.module.split(".")[1]])
 
     def test_no_ring_of_imports(self):
-        needs = {name[:-3]: {node.module.split(".")[1] for node in tree.body if isinstance(node, ast.ImportFrom)}
+        needs = {name[:-3]: {node.module.split(".")[1] for node in tree.body
+                             if isinstance(node, ast.ImportFrom) and node.module not in LIBRARY}
                  for name, tree in self.trees.items()}
         while needs:
             free = [name for name, wanted in needs.items() if not wanted & set(needs)]
@@ -348,7 +383,7 @@ class PackageForm(unittest.TestCase):
         generators = {function.name for tree in self.trees.values() for function in functions_of(tree)
                       if is_generator(function)}
         self.assertGreaterEqual(generators, {"all_runs", "rings_of", "leads_along", "lot_demands", "least_lots",
-                                             "all_work_runs"})
+                                             "all_work_runs", "all_weaves"})
         for name, tree in self.trees.items():
             with self.subTest(file=name):
                 self.assertEqual(generator_faults(tree, generators), [])
@@ -389,6 +424,11 @@ class FaultsAreFound(unittest.TestCase):
         self.expect("a = '%'\n", "string %")
         self.expect("def f(x):\n    return x == 'type'\n", "word type")
         self.expect("def f(x):\n    raise x\n", "raise")
+        self.expect("from math import sqrt\n", "import from outside math")
+        self.expect("from math import gcd\ndef f(n):\n    return [gcd]\n", "library not called gcd")
+        self.expect("from math import gcd\ndef f(n):\n    return gcd(n, b=1)\n", "library with a keyword gcd")
+        self.expect("def f(n):\n    try:\n        n()\n    except ValueError:\n        return 1\n", "except")
+        self.expect("def f(n):\n    try:\n        n()\n    finally:\n        n = 1\n", "finally")
         self.expect("class A:\n    def __hash__(self):\n        return 1\n", "method __hash__")
 
     def test_generator_samples(self):
