@@ -1,4 +1,4 @@
-"""Checks of plain values that the modules share."""
+"""Checks of plain values, and small steps with them, that the modules share."""
 
 from purseahead.errors import TooMany
 
@@ -49,3 +49,8 @@ def check_many(count, most):
     """Raise TooMany if a count is above the most."""
     if count > most:
         raise TooMany(count)
+
+
+def replaced(items, index, item):
+    """The tuple with another item in one place."""
+    return (*items[:index], item, *items[index + 1:])

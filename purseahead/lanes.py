@@ -1,7 +1,7 @@
 """Lanes: runs of even and covered meters that pay from one purse, one deed at a time."""
 
 from purseahead.charts import check_arrow
-from purseahead.checking import is_sequence, is_within
+from purseahead.checking import is_sequence, is_within, replaced
 from purseahead.errors import BadLanes, NoLane, NoRoom, NotHere, NotRunning, Refused
 from purseahead.meters import Meter
 from purseahead.stops import check_limit, good_leads
@@ -25,11 +25,6 @@ def check_meters(meters):
 def leads_behind(meter):
     """The lead behind each place."""
     return tuple([lead - cost for lead, cost in zip(good_leads(meter), meter.chart.costs)])
-
-
-def replaced(items, index, item):
-    """The tuple with another item in one place."""
-    return (*items[:index], item, *items[index + 1:])
 
 
 class Lanes:

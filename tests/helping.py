@@ -1,5 +1,6 @@
 """Charts for the tests, plain going through all runs and rings, and wrong values of each kind."""
 
+import itertools
 import random
 
 from purseahead.charts import Chart
@@ -389,6 +390,21 @@ def trail_leads(meter, trail):
             leads.append(behind + mark_charge(meter, mark))
             behind = leads[-1] - works.charts[number].costs[place]
     return leads
+
+
+def deeds_of(lane, run):
+    return [] if run is None else [("begin", lane), *[("take", lane, arrow) for arrow in run]]
+
+
+def plain_weaves(runs):
+    """All weaves of lane runs, by all orders of the deeds' lanes."""
+    rows = [deeds_of(lane, run) for lane, run in enumerate(runs)]
+    orders = sorted(set(itertools.permutations([lane for lane, row in enumerate(rows) for _ in row])))
+    weaves = []
+    for order in orders:
+        left = [list(row) for row in rows]
+        weaves.append(tuple(left[lane].pop(0) for lane in order))
+    return weaves
 
 
 def is_deep_tuple(value):

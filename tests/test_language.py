@@ -14,7 +14,7 @@ ALLOWED_BUILTINS = {
     "list", "tuple", "dict", "isinstance", "ord", "repr", "any", "all", "divmod", "ValueError", "iter",
     "NotImplemented", "property", "staticmethod"}
 ALLOWED_METHODS = {"append", "pop", "split", "join", "get", "index", "count", "items", "values"}
-ALLOWED_DUNDERS = {"__init__", "__eq__", "__len__", "__iter__", "__add__"}
+ALLOWED_DUNDERS = {"__init__", "__eq__", "__len__", "__iter__", "__add__", "__enter__", "__exit__"}
 BARRED_NAMES = {
     "register", "mro", "elements", "open", "input", "law", "version_info", "with_traceback", "add_note",
     "attrgetter", "breakpoint", "builtins", "compile", "copyright", "credits", "delattr", "dir", "eval", "exec",
@@ -37,7 +37,8 @@ ALLOWED_NODES = (
     ast.Lambda, ast.Yield, ast.YieldFrom, ast.JoinedStr, ast.FormattedValue,
     ast.BoolOp, ast.And, ast.Or, ast.UnaryOp, ast.Not, ast.USub, ast.BinOp, ast.Add, ast.Sub, ast.Mult,
     ast.FloorDiv, ast.Mod, ast.Pow, ast.Compare, ast.Eq, ast.NotEq, ast.Lt, ast.LtE, ast.Gt, ast.GtE, ast.Is,
-    ast.IsNot, ast.In, ast.NotIn, ast.Try, ast.ExceptHandler)
+    ast.IsNot, ast.In, ast.NotIn, ast.Try, ast.ExceptHandler,
+    ast.With, ast.withitem)
 AT_ONCE = {"list", "tuple", "sorted", "enumerate", "zip", "dict"}
 
 
@@ -255,12 +256,37 @@ def try_faults(node):
     return faults
 
 
+def with_faults(node):
+    """Faults of a with statement: it is over a call, a name or an attribute, and nothing is yielded in it."""
+    faults = []
+    for item in node.items:
+        if not isinstance(item.context_expr, (ast.Call, ast.Name, ast.Attribute)):
+            faults.append("with")
+        if item.optional_vars is not None and not isinstance(item.optional_vars, ast.Name):
+            faults.append("with as")
+    if any(isinstance(inner, (ast.Yield, ast.YieldFrom)) for inner in ast.walk(node)):
+        faults.append("yield under a with")
+    return faults
+
+
+def exit_faults(node):
+    """Faults of an __exit__: it has four parameters and only assigns names and attributes to attributes of one name."""
+    faults = [] if len(arguments_of(node)) == 4 else ["parameters of __exit__"]
+    for row in node.body:
+        if not isinstance(row, ast.Assign) or not isinstance(row.value, (ast.Name, ast.Attribute)):
+            faults.append("row of __exit__")
+    read = {inner.id for inner in ast.walk(node) if isinstance(inner, ast.Name)}
+    return faults + ["read in __exit__ " + name for name in sorted(read & set(arguments_of(node)[1:]))]
+
+
 def definition_faults(node):
     faults = []
     for decorator in node.decorator_list:
         if not isinstance(decorator, ast.Name) or decorator.id not in ("property", "staticmethod"):
             faults.append("decorator")
     if isinstance(node, ast.FunctionDef):
+        if node.name == "__exit__":
+            faults.extend(exit_faults(node))
         if node.name.startswith("__") and node.name not in ALLOWED_DUNDERS:
             faults.append("method " + node.name)
         faults.extend("nested function" for inner in functions_of(node) if inner is not node)
@@ -279,6 +305,8 @@ def statement_faults(tree):
             faults.extend(compare_faults(node))
         if isinstance(node, ast.Call):
             faults.extend(call_faults(node))
+        if isinstance(node, ast.With):
+            faults.extend(with_faults(node))
         if isinstance(node, ast.Try):
             faults.extend(try_faults(node))
         if isinstance(node, ast.Raise):
@@ -383,7 +411,7 @@ class PackageForm(unittest.TestCase):
         generators = {function.name for tree in self.trees.values() for function in functions_of(tree)
                       if is_generator(function)}
         self.assertGreaterEqual(generators, {"all_runs", "rings_of", "leads_along", "lot_demands", "least_lots",
-                                             "all_work_runs", "all_weaves"})
+                                             "all_work_runs", "all_weaves", "find_mends", "find_spoilers"})
         for name, tree in self.trees.items():
             with self.subTest(file=name):
                 self.assertEqual(generator_faults(tree, generators), [])
@@ -429,6 +457,10 @@ class FaultsAreFound(unittest.TestCase):
         self.expect("from math import gcd\ndef f(n):\n    return gcd(n, b=1)\n", "library with a keyword gcd")
         self.expect("def f(n):\n    try:\n        n()\n    except ValueError:\n        return 1\n", "except")
         self.expect("def f(n):\n    try:\n        n()\n    finally:\n        n = 1\n", "finally")
+        self.expect("def f(n):\n    with n as n.a:\n        return 1\n", "with as")
+        self.expect("def f(n):\n    with n:\n        yield 1\n", "yield under a with")
+        self.expect("class A:\n    def __exit__(self, a, b, c):\n        self.n = b\n", "read in __exit__ b")
+        self.expect("class A:\n    def __exit__(self, a, b, c):\n        self.n.pop()\n", "row of __exit__")
         self.expect("class A:\n    def __hash__(self):\n        return 1\n", "method __hash__")
 
     def test_generator_samples(self):

@@ -3,11 +3,11 @@
 import random
 import time
 import unittest
-from itertools import islice, permutations
+from itertools import islice
 from math import factorial
 
 from helping import NO_NUMBERS, NO_SEQUENCES, WRONG_LIMITS, Raises, dense, example, example_meter, is_deep_tuple, loop
-from helping import plain_runs, runs_up_to, some_metered, sources, uncovered, uneven
+from helping import plain_runs, plain_weaves, runs_up_to, some_metered, sources, uncovered, uneven
 from purseahead.charts import Chart
 from purseahead.errors import BadDeeds, BadLaneRuns, BadLanes, BadLimit, MeterError, NotMetered, Refused
 from purseahead.lanes import Lanes
@@ -35,18 +35,6 @@ def plain_weave(meters, limit, deeds):
         except MeterError:
             return index
     return Woven(len(deeds), None, lanes.purse, lanes.used)
-
-
-def plain_weaves(runs):
-    """All weaves, by all orders of the deeds' lanes."""
-    rows = [[] if run is None else [("begin", lane), *[("take", lane, arrow) for arrow in run]]
-            for lane, run in enumerate(runs)]
-    orders = sorted(set(permutations([lane for lane, row in enumerate(rows) for _ in row])))
-    weaves = []
-    for order in orders:
-        left = [list(row) for row in rows]
-        weaves.append(tuple(left[lane].pop(0) for lane in order))
-    return weaves
 
 
 class WeaveRuns(Raises, unittest.TestCase):
