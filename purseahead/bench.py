@@ -55,17 +55,13 @@ class Trial:
 
     def __init__(self, bench):
         self.bench = bench
-        self.keep()
 
-    def keep(self):
+    def __enter__(self):
+        # Only now, as the bench may have been changed since the trial was made.
         self.chart = self.bench.chart
         self.lot = self.bench.lot
         self.done = self.bench.done
         self.past = self.bench.past
-
-    def __enter__(self):
-        # The bench may have been changed since the trial was made.
-        self.keep()
         return self.bench
 
     def __exit__(self, kind, value, trace):

@@ -1,7 +1,7 @@
 """A watch that reads a log entry by entry."""
 
 from purseahead.errors import BadLog, NothingSeen
-from purseahead.logs import MOST_ENTRIES, find_places, is_entry
+from purseahead.logs import MOST_ENTRIES, find_places
 
 
 class Watch:
@@ -12,9 +12,9 @@ class Watch:
 
     def see(self, charge):
         """Add an entry to the log; return the places where the run may be."""
-        index = len(self.log)
-        if index == MOST_ENTRIES or not is_entry(index, charge):
-            raise BadLog(index)
+        if len(self.log) == MOST_ENTRIES:
+            raise BadLog(MOST_ENTRIES)
+        # The entries before fit, so any error tells the index of the new one.
         log = (*self.log, charge)
         self.places = find_places(self.meter, log)
         self.log = log

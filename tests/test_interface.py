@@ -5,16 +5,18 @@ import types
 import unittest
 
 from helping import example, example_meter, sample_works
-from purseahead import bounded, charts, charttext, comparing, copying, covering, demands, drifts, errors, evenness
-from purseahead import fewest, flatworks, kindmeters, kinds, lanes, leads, leastmeters, meters, metertext, moving, paces
-from purseahead import parts, placelots, pricelimits, pricing, runs, stops, weaves, weights, workleast, workmeters
-from purseahead import workpaces, workruns, works
+from purseahead import bench, bounded, charts, charttext, comparing, copying, covering, demands, drifts, edits, errors
+from purseahead import evenness, fewest, flatworks, kindmeters, kinds, lanes, leads, leastmeters, logs, mends, meters
+from purseahead import metertext, moving, paces, parts, placelots, pricelimits, pricing, runs, sharing, stops, telling
+from purseahead import watches, weaves, weights, workleast, workmeters, workpaces, workruns, works
+from purseahead.bench import Bench, Trial
 from purseahead.charts import Chart
 from purseahead.kindmeters import KindMeter
 from purseahead.kinds import KindChart
 from purseahead.lanes import Lanes
 from purseahead.meters import Meter
 from purseahead.paces import Purse
+from purseahead.watches import Watch
 from purseahead.workmeters import WorkMeter
 from purseahead.works import Works
 
@@ -79,6 +81,14 @@ FUNCTIONS = {
         lifted_meter(copy, meter) best_copy(chart, lot)""",
     weaves: """weave_run(meters, limit, deeds) check_lane_runs(meters, runs) all_weaves(meters, runs)
         count_weaves(meters, runs)""",
+    sharing: """limit_of(meters, runs) first_refused(meters, runs, limit) most_unused(meters)
+        unused_fault(meters, told) best_turns(meters, runs) turns_fault(meters, runs, told)""",
+    logs: """log_of(meter, run) check_log(log) find_places(meter, log) find_log_run(meter, log, place)
+        sure_arrows(meter, log) some_arrows(meter, log) used_range(meter, log)""",
+    telling: "find_telling(meter, other)",
+    edits: "apply_edits(chart, lot, edits) check_goal(goal) meets_goal(chart, lot, goal)",
+    mends: "check_pool(pool) find_mends(chart, lot, pool, goal) find_spoilers(chart, lot, pool, goal)",
+    bench: "in_trial(bench, work)",
 }
 RESULTS = {
     drifts: "Drift(ring, by)",
@@ -106,6 +116,7 @@ RESULTS = {
     comparing: "Sooner(run, limit)",
     copying: "Copy(source, chart, place, origins) BestCopy(place, arrows, greatest)",
     weaves: "Woven(done, refused, purse, used)",
+    sharing: "Unused(unused, lane, arrow, runs, limit) Turns(limit, order)",
 }
 METHODS = {
     Chart: """__init__(self, costs, arrows) outs(self, place) into(self, place) __len__(self) __iter__(self)
@@ -121,27 +132,31 @@ METHODS = {
     KindMeter: """__init__(self, kindchart, first, charges) charged(self, run) lead_ahead(self, run)
         lead_behind(self, run) of_kind(self, kind) at_prices(self, prices) __eq__(self, other)""",
     Lanes: "__init__(self, meters, limit) begin(self, lane) take(self, lane, arrow) fork(self, lane) close(self, lane)",
+    Watch: "__init__(self, meter) see(self, charge) take_back(self)",
+    Bench: """__init__(self, chart, lot=()) change(self, edit) take_back(self) even_now(self) meets(self, goal)
+        trial(self, edits, goal)""",
+    Trial: "__init__(self, bench) __enter__(self)",
 }
 PROPERTIES = ((Chart, "ends"), (Meter, "charged_arrows"), (Purse, "unused_now"), (WorkMeter, "charged_marks"),
               (KindMeter, "charged_arrows"), (Lanes, "held_now"))
 GENERATORS = (runs.all_runs, parts.rings_of, leads.leads_along, evenness.lot_demands, fewest.least_lots,
-              workruns.all_work_runs, weaves.all_weaves)
+              workruns.all_work_runs, weaves.all_weaves, mends.find_mends, mends.find_spoilers)
 HOMES = {Chart: charts, Meter: meters, Purse: paces, Works: works, WorkMeter: workmeters, KindChart: kinds,
-         KindMeter: kindmeters, Lanes: lanes}
+         KindMeter: kindmeters, Lanes: lanes, Watch: watches, Bench: bench, Trial: bench}
 
 
 def listed(text):
     """The (name, arguments) of a listing such as "f(a, b) g(c)"."""
     found = []
     for word in " ".join(text.split()).replace(", ", ",").split():
-        name, arguments = word.rstrip(")").split("(")
+        name, arguments = word[:-1].split("(", 1)
         found.append((name, arguments.split(",")))
     return found
 
 
 def parameters(work):
     """The parameters as a listing writes them, the bare star among them."""
-    return str(inspect.signature(work)).strip("()").split(", ")
+    return str(inspect.signature(work))[1:-1].split(", ")
 
 
 def results():
@@ -183,9 +198,12 @@ class Interface(unittest.TestCase):
         for name in ("pace", "places", "place", "purse_tests", "slow_tests"):
             self.assertIn(name, vars(purse))
 
-    def test_attributes_of_lanes(self):
-        for name in ("meters", "limit", "purse", "used", "unused", "stands", "places"):
-            self.assertIn(name, vars(Lanes([example_meter()], 9)))
+    def test_attributes_of_what_changes(self):
+        told = {Lanes([example_meter()], 9): "meters limit purse used unused stands places",
+                Watch(example_meter()): "meter log places", Bench(example()): "chart lot done",
+                Trial(Bench(example())): "bench"}
+        for made, names in told.items():
+            self.assertLessEqual(set(names.split()), set(vars(made)))
 
     def test_generators(self):
         for work in GENERATORS:
@@ -231,57 +249,6 @@ class Equality(unittest.TestCase):
             for other in (None, 0, (), "", vars(things[one]), tuple(vars(things[one]).values())):
                 self.assertFalse(things[one] == other)
                 self.assertFalse(other == things[one])
-
-
-class Unchanged(unittest.TestCase):
-    """What is passed to one function after the other stays as it was."""
-
-    def test_chart_and_meter(self):
-        chart, meter = example(), example_meter()
-        for module, text in FUNCTIONS.items():
-            for name, arguments in listed(text):
-                if arguments in (["chart"], ["meter"]) and module is not flatworks:
-                    if name not in ("even_works", "is_metered_works", "least_work_gates"):
-                        self.use(vars(module)[name], chart if arguments == ["chart"] else meter)
-        self.assertEqual((chart, meter), (example(), example_meter()))
-
-    def use(self, work, thing):
-        found = work(thing)
-        if inspect.isgenerator(found):
-            list(found)
-
-    def test_works(self):
-        given, meter = sample_works(), workmeters.WorkMeter(sample_works(), 2, [(9, 0), (0, 0, 0)], [(0,), (0, 3)])
-        for module in (works, workmeters, workpaces, workleast, flatworks):
-            for name, arguments in listed(FUNCTIONS[module]):
-                if arguments in (["works"], ["meter"]):
-                    self.use(vars(module)[name], given if arguments == ["works"] else meter)
-        told = workmeters.WorkMeter(sample_works(), 2, [(9, 0), (0, 0, 0)], [(0,), (0, 3)])
-        self.assertEqual((given, meter), (sample_works(), told))
-
-    def test_lists(self):
-        chart, meter = example(), example_meter()
-        calls = [(runs.check_run, [chart, [0, 1, 2]]), (runs.used_row, [chart, [0, 1, 2]]),
-                 (parts.check_ring, [chart, [0, 1]]), (parts.ring_places, [chart, [0, 1]]),
-                 (meter.charged, [[0, 1]]), (meter.lead_behind, [[0, 1]]),
-                 (drifts.levels_fault, [meter, [0, -2, -2, 0]]),
-                 (leads.floor_fault, [meter, [6, 4, 4, 4]]), (leads.ceiling_fault, [meter, [6, 4, 4, 4]]),
-                 (covering.leads_fault, [meter, [6, 4, 4, 4]]), (evenness.first_unmet, [chart, [1, 3], [6, 4, 4, 4]]),
-                 (evenness.walk_places, [chart, 2, [(2, "back")]]), (evenness.walk_sum, [chart, [(2, "back")]]),
-                 (leastmeters.meter_of, [chart, [6, 4, 4, 4]]), (leastmeters.least_meter, [chart, [1, 3]]),
-                 (charts.renamed, [chart, [0, 2, 1, 3]]), (demands.least_numbers, [1, [[0, None, 3]]]),
-                 (demands.greatest_numbers, [1, [[0, None, 3]], [5]]), (bounded.bounded_meter, [chart, [1, 3]]),
-                 (bounded.bounded_fault, [chart, [1, 3], meter]), (bounded.need_from, [chart, [1, 3], 0]),
-                 (bounded.all_needs, [chart, [1, 3]]), (bounded.covering_meter, [chart, [1, 3]]),
-                 (weights.cheapest, [chart, [1, 2, 3, 4, 5]]), (weights.share_out, [chart, [1, 2, 3, 4, 5]]),
-                 (placelots.least_even_places, [chart, [0, 2]]), (placelots.place_walk_fault, [chart, [0], [(0, "back")]]),
-                 (stops.plain_stop, [chart, [0, 1], 9]), (stops.one_paced, [meter, [0, 1], 9]),
-                 (paces.check_gates, [meter, [6, 3, 4, 1]]), (paces.two_paced, [meter, [0, 1], 9]),
-                 (paces.find_parting, [meter, [6, 3, 4, 1]]), (paces.slow_most, [meter, [6, 3, 4, 1], 9])]
-        for work, arguments in calls:
-            before = repr([each for each in arguments if isinstance(each, list)])
-            work(*arguments)
-            self.assertEqual(repr([each for each in arguments if isinstance(each, list)]), before, work)
 
 
 if __name__ == "__main__":
